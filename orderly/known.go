@@ -1,0 +1,70 @@
+package orderly
+
+import (
+	"slices"
+
+	"orderly/api"
+)
+
+// known is what all partitions know. It never changes once it is made.
+type known struct {
+	config api.Config
+	log    []api.Txn
+}
+
+// newKnown copies every list: what was handed in stays the caller's.
+func newKnown(c api.Config, log []api.Txn) known {
+	c.Bounds = slices.Clone(c.Bounds)
+	k := known{config: c, log: make([]api.Txn, len(log))}
+	for i, t := range log {
+		k.log[i] = api.Txn{
+			Reads:  slices.Clone(t.Reads),
+			Writes: slices.Clone(t.Writes),
+			Ranges: slices.Clone(t.Ranges),
+			Code:   slices.Clone(t.Code),
+		}
+	}
+	return k
+}
+
+// count tells how many partitions there are.
+func (k *known) count() int { return len(k.config.Bounds) + 1 }
+
+func (k *known) hasPartition(partition int) bool {
+	return 0 <= partition && partition < k.count()
+}
+
+// home is the partition in which a key lies.
+func (k *known) home(key int) int {
+	home := 0
+	for _, b := range k.config.Bounds {
+		if b <= key {
+			home++
+		}
+	}
+	return home
+}
+
+// takesPart tells whether a transaction takes part in a partition.
+func (k *known) takesPart(txn, partition int) bool {
+	t := k.log[txn]
+	if len(t.Reads)+len(t.Writes)+len(t.Ranges) == 0 {
+		return partition == 0
+	}
+	lies := func(key int) bool { return k.home(key) == partition }
+	// No partition is without keys, so a range lies in each one between those of its ends.
+	reaches := func(r api.Range) bool { return k.home(r.Lo) <= partition && partition <= k.home(r.Hi) }
+	return slices.ContainsFunc(t.Reads, lies) ||
+		slices.ContainsFunc(t.Writes, lies) ||
+		slices.ContainsFunc(t.Ranges, reaches)
+}
+
+// next is the first transaction, from a number on, that takes part in a partition; the log's end if none does.
+func (k *known) next(partition, from int) int {
+	for txn := from; txn < len(k.log); txn++ {
+		if k.takesPart(txn, partition) {
+			return txn
+		}
+	}
+	return len(k.log)
+}

@@ -1,0 +1,136 @@
+package orderly_test
+
+import (
+	"reflect"
+	"slices"
+	"testing"
+
+	"orderly/api"
+	"orderly/orderly"
+)
+
+// given is all that is handed to a New. Each list of it has room behind it.
+type given struct {
+	config api.Config
+	log    []api.Txn
+	start  []api.Pair
+}
+
+func roomy[T any](fill T, list ...T) []T {
+	return append(list, fill, fill)[:len(list)]
+}
+
+// handedIn is made anew each time, so that two of them share nothing.
+func handedIn() given {
+	const behind = 77
+	first := api.Txn{
+		Reads:  roomy(behind, 60),
+		Writes: roomy(behind, 61, 62),
+		Ranges: roomy(api.Range{Lo: behind}, api.Range{Lo: 70, Hi: 80}),
+		Code:   roomy(api.Ins{Kind: behind}, api.Ins{Kind: api.Get, B: 60}, api.Ins{Kind: api.Put, A: 61}, api.Ins{Kind: api.Sum, A: 1}),
+	}
+	return given{
+		config: api.Config{Bounds: roomy(behind, 30, 50), Window: 2, Credits: 3, Workers: 4},
+		log:    roomy(api.Txn{Reads: []int{behind}}, first, api.Txn{Reads: roomy(behind, 10)}),
+		start:  roomy(api.Pair{Key: behind}, api.Pair{Key: 5, Value: 6}, api.Pair{Key: 30, Value: 8}, api.Pair{Key: 50, Value: 9}),
+	}
+}
+
+func whole[T any](list []T) []T { return list[:cap(list)] }
+
+// widened shows also what stands behind the lists.
+func widened(g given) given {
+	g.config.Bounds, g.log, g.start = whole(g.config.Bounds), slices.Clone(whole(g.log)), whole(g.start)
+	for i, t := range g.log {
+		g.log[i] = api.Txn{Reads: whole(t.Reads), Writes: whole(t.Writes), Ranges: whole(t.Ranges), Code: whole(t.Code)}
+	}
+	return g
+}
+
+// spoil writes over all that g reaches.
+func spoil(g given) {
+	g = widened(g)
+	clear(g.config.Bounds)
+	clear(g.start)
+	for _, t := range g.log {
+		clear(t.Reads)
+		clear(t.Writes)
+		clear(t.Ranges)
+		clear(t.Code)
+	}
+}
+
+// seen is all that an engine tells.
+func seen(e *orderly.Engine) []any {
+	var all []any
+	for i := -1; i <= 4; i++ {
+		result, f := e.Result(i)
+		table, g := e.Table(i)
+		look, h := e.Look(i)
+		all = append(all, result, f, slices.Clip(table), g, look, h)
+		for j := -1; j <= 4; j++ {
+			mail, f := e.Mail(i, j)
+			all = append(all, mail, f)
+		}
+	}
+	return all
+}
+
+func TestP2NothingIsWrittenInto(t *testing.T) {
+	g := handedIn()
+	e := wantEngine(t, g.config, g.log, g.start...)
+	seen(e)
+	if want := handedIn(); !reflect.DeepEqual(widened(g), widened(want)) {
+		t.Errorf("P2: New changed what it was given: %+v, not %+v", widened(g), widened(want))
+	}
+	g = handedIn()
+	g.log[1].Code = []api.Ins{{}}
+	orderly.New(g.config, g.log, g.start...)
+	g.log[1].Code = nil
+	if want := handedIn(); !reflect.DeepEqual(widened(g), widened(want)) {
+		t.Errorf("P2: New changed what it refused: %+v, not %+v", widened(g), widened(want))
+	}
+}
+
+func TestP2NothingIsKept(t *testing.T) {
+	g, spoiled := handedIn(), handedIn()
+	e := wantEngine(t, g.config, g.log, g.start...)
+	f := wantEngine(t, spoiled.config, spoiled.log, spoiled.start...)
+	spoil(spoiled)
+	clear(whole(spoiled.log))
+	if !reflect.DeepEqual(seen(f), seen(e)) {
+		t.Errorf("P2: %v, not %v", seen(f), seen(e))
+	}
+	if !reflect.DeepEqual(f, e) {
+		t.Errorf("P2: an engine has kept what it was given: %+v, not %+v", f, e)
+	}
+}
+
+func TestP2TablesAreNewMemory(t *testing.T) {
+	g := handedIn()
+	e := wantEngine(t, g.config, g.log, g.start...)
+	want := seen(e)
+	var answers [][]api.Pair
+	for i := range 6 {
+		table, _ := e.Table(i % 3)
+		answers = append(answers, table)
+	}
+	for i, answer := range answers {
+		if len(answer) != 1 || answer[0] != g.start[i%3] {
+			t.Errorf("P2: an answer of Table(%d) shares memory with another one: %v", i%3, answer)
+		}
+		clear(whole(answer))
+	}
+	if got := seen(e); !reflect.DeepEqual(got, want) {
+		t.Errorf("P2: a table's answer is the engine's memory: %v, not %v", got, want)
+	}
+}
+
+func TestP2EnginesStandAlone(t *testing.T) {
+	one := wantEngine(t, plain(), txns(2), api.Pair{Key: 1, Value: 1})
+	want := seen(one)
+	wantEngine(t, api.Config{Window: 1, Credits: 1, Workers: 1}, nil, starting(40)...)
+	if got := seen(one); !reflect.DeepEqual(got, want) {
+		t.Errorf("P2: another engine changed the answers: %v, not %v", got, want)
+	}
+}
