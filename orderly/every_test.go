@@ -9,46 +9,99 @@ import (
 	"orderly/orderly"
 )
 
-var numbers = []int{math.MinInt, math.MinInt + 1, -100, -1, 0, 1, 2, 3, 4, 6, 24, 40, 99, 100, math.MaxInt - 1, math.MaxInt}
+var numbers = []int{math.MinInt, math.MinInt + 1, -100, -1, 0, 1, 2, 3, 4, 5, 6, 24, 40, 99, 100, math.MaxInt - 1, math.MaxInt}
+
+// stages are engines that have come ever farther in a log.
+func stages(t *testing.T) []*orderly.Engine {
+	t.Helper()
+	var list []*orderly.Engine
+	for steps := range 8 {
+		e := wantEngine(t, plain(), append(example(), txns(3)...), starting(40)...)
+		for range steps {
+			for partition := range 2 {
+				e.Pick(partition, api.Admit, 0)
+				e.Pick(partition, api.Read, 0)
+				if steps > 4 {
+					e.Pick(partition, api.Work, 0)
+				}
+			}
+		}
+		list = append(list, e)
+	}
+	return list
+}
 
 func TestP1CallsAtAllNumbers(t *testing.T) {
 	for _, bounds := range [][]int{nil, {50}, {20, 40, 60}} {
 		c := plain()
 		c.Bounds = bounds
 		e := wantEngine(t, c, example(), starting(40)...)
-		want := seen(e)
-		for _, n := range numbers {
-			e.Result(n)
-			e.Table(n)
-			e.Look(n)
-			for _, m := range numbers {
-				e.Mail(n, m)
+		for _, e := range append(stages(t), e) {
+			want := seen(e)
+			for _, n := range numbers {
+				e.Result(n)
+				e.Table(n)
+				e.Look(n)
+				for _, m := range numbers {
+					e.Mail(n, m)
+				}
 			}
-		}
-		if got := seen(e); !reflect.DeepEqual(got, want) {
-			t.Errorf("P1: asking changed the answers: %v, not %v", got, want)
+			if got := seen(e); !reflect.DeepEqual(got, want) {
+				t.Errorf("P1: asking changed the answers: %v, not %v", got, want)
+			}
 		}
 	}
 }
 
 func TestP1WrongPicks(t *testing.T) {
-	e := wantEngine(t, plain(), example(), starting(40)...)
-	want := seen(e)
-	for _, partition := range numbers {
-		for _, kind := range numbers {
-			for _, other := range numbers {
-				there, known := partition == 0 || partition == 1, kind >= api.Admit && kind <= api.Work
-				if there && known {
-					continue
-				}
-				if e.Pick(partition, kind, other) {
-					t.Errorf("P1: Pick(%d, %d, %d) is true", partition, kind, other)
+	for _, e := range stages(t) {
+		want := seen(e)
+		for _, partition := range numbers {
+			for _, kind := range numbers {
+				for _, other := range numbers {
+					if mayBe(partition, kind, other) {
+						continue
+					}
+					if e.Pick(partition, kind, other) {
+						t.Errorf("P1: Pick(%d, %d, %d) is true", partition, kind, other)
+					}
 				}
 			}
 		}
+		if got := seen(e); !reflect.DeepEqual(got, want) {
+			t.Errorf("P1: picks that can't be done changed the answers: %v, not %v", got, want)
+		}
 	}
-	if got := seen(e); !reflect.DeepEqual(got, want) {
-		t.Errorf("P1: picks that can't be done changed the answers: %v, not %v", got, want)
+}
+
+// mayBe tells whether there is such a pick of two partitions.
+func mayBe(partition, kind, other int) bool {
+	there := partition == 0 || partition == 1
+	switch kind {
+	case api.Admit, api.Read, api.Work:
+		return there
+	case api.Send, api.Take:
+		return there && other == 1-partition
+	}
+	return false
+}
+
+// A pick that is answered with false has changed nothing, at all numbers.
+func TestP1PicksAtAllNumbers(t *testing.T) {
+	for _, e := range stages(t) {
+		for range 3 {
+			for _, kind := range numbers {
+				for _, partition := range numbers {
+					want := seen(e)
+					if e.Pick(partition, kind, 1) {
+						continue
+					}
+					if got := seen(e); !reflect.DeepEqual(got, want) {
+						t.Errorf("P1: Pick(%d, %d, 1) is false, and changed %v into %v", partition, kind, want, got)
+					}
+				}
+			}
+		}
 	}
 }
 

@@ -34,6 +34,8 @@ func (k *known) hasPartition(partition int) bool {
 	return 0 <= partition && partition < k.count()
 }
 
+func (k *known) hasTxn(txn int) bool { return 0 <= txn && txn < len(k.log) }
+
 // home is the partition in which a key lies.
 func (k *known) home(key int) int {
 	home := 0
@@ -43,6 +45,14 @@ func (k *known) home(key int) int {
 		}
 	}
 	return home
+}
+
+func (k *known) touches(txn, key int) bool {
+	t := k.log[txn]
+	has := func(r api.Range) bool { return r.Lo <= key && key <= r.Hi }
+	return slices.Contains(t.Reads, key) ||
+		slices.Contains(t.Writes, key) ||
+		slices.ContainsFunc(t.Ranges, has)
 }
 
 // takesPart tells whether a transaction takes part in a partition.
@@ -59,6 +69,16 @@ func (k *known) takesPart(txn, partition int) bool {
 		slices.ContainsFunc(t.Ranges, reaches)
 }
 
+// alone tells whether a transaction takes part in no other partition.
+func (k *known) alone(txn, partition int) bool {
+	for other := range k.count() {
+		if other != partition && k.takesPart(txn, other) {
+			return false
+		}
+	}
+	return true
+}
+
 // next is the first transaction, from a number on, that takes part in a partition; the log's end if none does.
 func (k *known) next(partition, from int) int {
 	for txn := from; txn < len(k.log); txn++ {
@@ -67,4 +87,16 @@ func (k *known) next(partition, from int) int {
 		}
 	}
 	return len(k.log)
+}
+
+// conflict tells whether two transactions conflict in a partition.
+func (k *known) conflict(one, two, partition int) bool {
+	return k.disturbs(one, two, partition) || k.disturbs(two, one, partition)
+}
+
+// disturbs tells whether a key of a partition stands in the Writes of one transaction and is touched by another.
+func (k *known) disturbs(writer, other, partition int) bool {
+	return slices.ContainsFunc(k.log[writer].Writes, func(key int) bool {
+		return k.home(key) == partition && k.touches(other, key)
+	})
 }

@@ -1,13 +1,89 @@
 package orderly
 
-import "orderly/api"
+import (
+	"slices"
+
+	"orderly/api"
+)
 
 // locks is how far a partition has come in the log.
 type locks struct {
-	upcoming int // the transaction that is let in next, or the log's end
+	known    *known
+	number   int     // the partition's
+	upcoming int     // the transaction that is let in next, or the log's end
+	open     []entry // in the log's order
 }
 
-func newLocks(upcoming int) locks { return locks{upcoming: upcoming} }
+// entry is a transaction that was let in and is not done.
+type entry struct {
+	txn  int
+	read bool
+	kept []api.Pair // what it has read
+}
 
-// look tells of Next alone: as long as nothing can be picked, none is open.
-func (l *locks) look() api.Look { return api.Look{Next: l.upcoming} }
+func newLocks(k *known, number int) locks {
+	return locks{known: k, number: number, upcoming: k.next(number, 0)}
+}
+
+func (l *locks) admit() bool {
+	if !l.known.hasTxn(l.upcoming) || len(l.open) == l.known.config.Window {
+		return false
+	}
+	l.open = append(l.open, entry{txn: l.upcoming})
+	l.upcoming = l.known.next(l.number, l.upcoming+1)
+	return true
+}
+
+// granted looks at the open ones alone: none that is earlier in the log can be let in any more.
+func (l *locks) granted(at int) bool {
+	for _, earlier := range l.open[:at] {
+		if l.known.conflict(earlier.txn, l.open[at].txn, l.number) {
+			return false
+		}
+	}
+	return true
+}
+
+// readable is the first entry that is granted and has not been read; nil if there is none.
+func (l *locks) readable() *entry {
+	for at := range l.open {
+		if !l.open[at].read && l.granted(at) {
+			return &l.open[at]
+		}
+	}
+	return nil
+}
+
+// ready is the first entries that can be worked out, at most Workers.
+func (l *locks) ready() []entry {
+	var list []entry
+	for _, o := range l.open {
+		// As long as nothing can be sent, those that take part elsewhere lack what lies there.
+		if o.read && l.known.alone(o.txn, l.number) && len(list) < l.known.config.Workers {
+			list = append(list, o)
+		}
+	}
+	return list
+}
+
+// release ends a transaction here: those behind it wait for it no more.
+func (l *locks) release(txn int) {
+	l.open = slices.DeleteFunc(l.open, func(o entry) bool { return o.txn == txn })
+}
+
+// done is asked of a transaction that takes part here.
+func (l *locks) done(txn int) bool {
+	return txn < l.upcoming && !slices.ContainsFunc(l.open, func(o entry) bool { return o.txn == txn })
+}
+
+func (l *locks) look() api.Look {
+	look := api.Look{Next: l.upcoming, Open: len(l.open)}
+	for at, o := range l.open {
+		if !l.granted(at) {
+			look.Waiting++
+		} else if !o.read {
+			look.Granted++
+		}
+	}
+	return look
+}

@@ -63,11 +63,14 @@ func spoil(g given) {
 // seen is all that an engine tells.
 func seen(e *orderly.Engine) []any {
 	var all []any
+	for txn := -1; txn <= 24; txn++ {
+		result, f := e.Result(txn)
+		all = append(all, result, f)
+	}
 	for i := -1; i <= 4; i++ {
-		result, f := e.Result(i)
 		table, g := e.Table(i)
 		look, h := e.Look(i)
-		all = append(all, result, f, slices.Clip(table), g, look, h)
+		all = append(all, slices.Clip(table), g, look, h)
 		for j := -1; j <= 4; j++ {
 			mail, f := e.Mail(i, j)
 			all = append(all, mail, f)
@@ -76,12 +79,27 @@ func seen(e *orderly.Engine) []any {
 	return all
 }
 
+// drive picks all that can be picked, in one order.
+func drive(e *orderly.Engine) {
+	for range 24 * (8 + 6) {
+		for partition := range 4 {
+			for kind := range 7 {
+				for other := range 4 {
+					e.Pick(partition, kind, other)
+				}
+			}
+		}
+	}
+}
+
 func TestP2NothingIsWrittenInto(t *testing.T) {
 	g := handedIn()
 	e := wantEngine(t, g.config, g.log, g.start...)
+	drive(e)
 	seen(e)
+	wantDone(t, e, 2, 0, 1)
 	if want := handedIn(); !reflect.DeepEqual(widened(g), widened(want)) {
-		t.Errorf("P2: New changed what it was given: %+v, not %+v", widened(g), widened(want))
+		t.Errorf("P2: a call changed what New was given: %+v, not %+v", widened(g), widened(want))
 	}
 	g = handedIn()
 	g.log[1].Code = []api.Ins{{}}
@@ -103,6 +121,11 @@ func TestP2NothingIsKept(t *testing.T) {
 	}
 	if !reflect.DeepEqual(f, e) {
 		t.Errorf("P2: an engine has kept what it was given: %+v, not %+v", f, e)
+	}
+	drive(f)
+	drive(e)
+	if !reflect.DeepEqual(seen(f), seen(e)) {
+		t.Errorf("P2: behind picks %v, not %v", seen(f), seen(e))
 	}
 }
 
@@ -126,10 +149,30 @@ func TestP2TablesAreNewMemory(t *testing.T) {
 	}
 }
 
+// The tables that came out between the picks are the caller's to write into, and stay as they came out.
+func TestP2TablesBehindPicks(t *testing.T) {
+	log := []api.Txn{adding(5), adding(6), adding(5), summing(0, 9)}
+	e := wantEngine(t, single(1, 1), log, api.Pair{Key: 6, Value: 3})
+	first, _ := e.Table(0)
+	for range log {
+		for _, kind := range []int{api.Admit, api.Read, api.Work} {
+			wantPicks(t, e, true, times(1, kind)...)
+			table, _ := e.Table(0)
+			clear(whole(table))
+		}
+	}
+	if len(first) != 1 || first[0] != (api.Pair{Key: 6, Value: 3}) {
+		t.Errorf("P2: a pick changed a table that came out before: %v", first)
+	}
+	wantResult(t, e, 3, done(6, 2))
+	wantTable(t, e, 0, api.Pair{Key: 5, Value: 2}, api.Pair{Key: 6, Value: 4})
+}
+
 func TestP2EnginesStandAlone(t *testing.T) {
 	one := wantEngine(t, plain(), txns(2), api.Pair{Key: 1, Value: 1})
 	want := seen(one)
-	wantEngine(t, api.Config{Window: 1, Credits: 1, Workers: 1}, nil, starting(40)...)
+	drive(wantEngine(t, api.Config{Window: 1, Credits: 1, Workers: 1}, txns(3), starting(40)...))
+	drive(wantEngine(t, plain(), txns(2), api.Pair{Key: 1, Value: 1}))
 	if got := seen(one); !reflect.DeepEqual(got, want) {
 		t.Errorf("P2: another engine changed the answers: %v, not %v", got, want)
 	}

@@ -10,6 +10,7 @@ import (
 type Engine struct {
 	known
 	partitions []partition
+	results    []api.Result // of those that were worked out somewhere
 }
 
 // New makes an engine (P3).
@@ -23,21 +24,39 @@ func New(c api.Config, log []api.Txn, start ...api.Pair) (*Engine, api.Errno, in
 	if at, ok := check.Start(start); !ok {
 		return nil, api.ErrStart, at
 	}
-	e := &Engine{known: newKnown(c, log)}
+	e := &Engine{known: newKnown(c, log), results: make([]api.Result, len(log))}
 	e.partitions = newPartitions(&e.known, start)
 	return e, api.OK, 0
 }
 
 // Pick lets a partition go on (P4).
-func (e *Engine) Pick(partition, kind, other int) bool { return false }
+func (e *Engine) Pick(partition, kind, other int) bool {
+	if !e.hasPartition(partition) {
+		return false
+	}
+	p := &e.partitions[partition]
+	switch kind {
+	case api.Admit:
+		return p.admit()
+	case api.Read:
+		return p.read()
+	case api.Work:
+		return p.work(e.results)
+	}
+	return false
+}
 
 // Result tells what came of a transaction (P5).
 func (e *Engine) Result(txn int) (api.Result, api.Errno) {
-	if txn < 0 || txn >= len(e.log) {
+	if !e.hasTxn(txn) {
 		return api.Result{}, api.ErrTxn
 	}
-	// As long as nothing can be picked, none is done.
-	return api.Result{}, api.OK
+	for i := range e.partitions {
+		if e.takesPart(txn, i) && !e.partitions[i].done(txn) {
+			return api.Result{}, api.OK
+		}
+	}
+	return e.results[txn], api.OK
 }
 
 // Table tells what a partition has (P5).
@@ -61,6 +80,6 @@ func (e *Engine) Mail(from, to int) (int, api.Errno) {
 	if !e.hasPartition(from) || !e.hasPartition(to) || from == to {
 		return 0, api.ErrPartition
 	}
-	// As long as nothing can be picked, none was sent.
+	// As long as nothing can be sent, none is under way.
 	return 0, api.OK
 }

@@ -11,6 +11,8 @@ func newTable() table { return table{values: map[int]int{}} }
 
 func (t *table) put(key, value int) { t.values[key] = value }
 
+func (t *table) remove(key int) { delete(t.values, key) }
+
 // pairs goes through the keys, not through the map: the order of a map is no order.
 func (t *table) pairs() []api.Pair {
 	list := make([]api.Pair, 0, len(t.values))
