@@ -21,6 +21,12 @@ func stages(t *testing.T) []*orderly.Engine {
 			for partition := range 2 {
 				e.Pick(partition, api.Admit, 0)
 				e.Pick(partition, api.Read, 0)
+				if steps > 1 {
+					e.Pick(partition, api.Send, 1-partition)
+				}
+				if steps > 2 {
+					e.Pick(partition, api.Take, 1-partition)
+				}
 				if steps > 4 {
 					e.Pick(partition, api.Work, 0)
 				}
@@ -92,12 +98,14 @@ func TestP1PicksAtAllNumbers(t *testing.T) {
 		for range 3 {
 			for _, kind := range numbers {
 				for _, partition := range numbers {
-					want := seen(e)
-					if e.Pick(partition, kind, 1) {
-						continue
-					}
-					if got := seen(e); !reflect.DeepEqual(got, want) {
-						t.Errorf("P1: Pick(%d, %d, 1) is false, and changed %v into %v", partition, kind, want, got)
+					for other := range 2 {
+						want := seen(e)
+						if e.Pick(partition, kind, other) {
+							continue
+						}
+						if got := seen(e); !reflect.DeepEqual(got, want) {
+							t.Errorf("P1: Pick(%d, %d, %d) is false, and changed %v into %v", partition, kind, other, want, got)
+						}
 					}
 				}
 			}

@@ -6,6 +6,8 @@ import (
 	"orderly/api"
 )
 
+const maxPartitions = api.MaxBounds + 1
+
 // known is what all partitions know. It never changes once it is made.
 type known struct {
 	config api.Config
@@ -32,6 +34,11 @@ func (k *known) count() int { return len(k.config.Bounds) + 1 }
 
 func (k *known) hasPartition(partition int) bool {
 	return 0 <= partition && partition < k.count()
+}
+
+// hasTwo tells whether there are two such partitions, and not one named twice.
+func (k *known) hasTwo(one, other int) bool {
+	return k.hasPartition(one) && k.hasPartition(other) && one != other
 }
 
 func (k *known) hasTxn(txn int) bool { return 0 <= txn && txn < len(k.log) }
@@ -69,14 +76,15 @@ func (k *known) takesPart(txn, partition int) bool {
 		slices.ContainsFunc(t.Ranges, reaches)
 }
 
-// alone tells whether a transaction takes part in no other partition.
-func (k *known) alone(txn, partition int) bool {
+// others is the partitions besides one in which a transaction takes part.
+func (k *known) others(txn, partition int) []int {
+	var list []int
 	for other := range k.count() {
 		if other != partition && k.takesPart(txn, other) {
-			return false
+			list = append(list, other)
 		}
 	}
-	return true
+	return list
 }
 
 // next is the first transaction, from a number on, that takes part in a partition; the log's end if none does.

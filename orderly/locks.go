@@ -18,7 +18,8 @@ type locks struct {
 type entry struct {
 	txn  int
 	read bool
-	kept []api.Pair // what it has read
+	kept []api.Pair          // what it has read
+	sent [maxPartitions]bool // to which other ones that was sent
 }
 
 func newLocks(k *known, number int) locks {
@@ -54,16 +55,15 @@ func (l *locks) readable() *entry {
 	return nil
 }
 
-// ready is the first entries that can be worked out, at most Workers.
-func (l *locks) ready() []entry {
-	var list []entry
-	for _, o := range l.open {
-		// As long as nothing can be sent, those that take part elsewhere lack what lies there.
-		if o.read && l.known.alone(o.txn, l.number) && len(list) < l.known.config.Workers {
-			list = append(list, o)
+// sendable is the first entry that another partition needs and was not sent; nil if there is none.
+func (l *locks) sendable(other int) *entry {
+	for at := range l.open {
+		o := &l.open[at]
+		if o.read && !o.sent[other] && l.known.takesPart(o.txn, other) {
+			return o
 		}
 	}
-	return list
+	return nil
 }
 
 // release ends a transaction here: those behind it wait for it no more.

@@ -24,7 +24,7 @@ func roomy[T any](fill T, list ...T) []T {
 func handedIn() given {
 	const behind = 77
 	first := api.Txn{
-		Reads:  roomy(behind, 60),
+		Reads:  roomy(behind, 60, 30),
 		Writes: roomy(behind, 61, 62),
 		Ranges: roomy(api.Range{Lo: behind}, api.Range{Lo: 70, Hi: 80}),
 		Code:   roomy(api.Ins{Kind: behind}, api.Ins{Kind: api.Get, B: 60}, api.Ins{Kind: api.Put, A: 61}, api.Ins{Kind: api.Sum, A: 1}),
@@ -147,6 +147,24 @@ func TestP2TablesAreNewMemory(t *testing.T) {
 	if got := seen(e); !reflect.DeepEqual(got, want) {
 		t.Errorf("P2: a table's answer is the engine's memory: %v, not %v", got, want)
 	}
+}
+
+// What is kept, under way and taken is no table's memory either.
+func TestP2TablesBehindPicksOfSeveralPartitions(t *testing.T) {
+	log := []api.Txn{adding(5, 60), adding(60, 5), summing(0, 99)}
+	e := wantEngine(t, parted(1, 1, 50), log, api.Pair{Key: 5, Value: 3}, api.Pair{Key: 60, Value: 8})
+	for range 3 * (1 + 6) {
+		for _, x := range picks(2) {
+			e.Pick(x[0], x[1], x[2])
+			for partition := range 2 {
+				table, _ := e.Table(partition)
+				clear(whole(table))
+			}
+		}
+	}
+	wantResult(t, e, 2, done(13, 2))
+	wantTable(t, e, 0, api.Pair{Key: 5, Value: 4})
+	wantTable(t, e, 1, api.Pair{Key: 60, Value: 9})
 }
 
 // The tables that came out between the picks are the caller's to write into, and stay as they came out.

@@ -1,10 +1,7 @@
 package orderly_test
 
 import (
-	"fmt"
 	"maps"
-	"math"
-	"math/rand/v2"
 	"slices"
 	"testing"
 
@@ -19,8 +16,11 @@ type model struct {
 	log                 []api.Txn
 	start               map[int]int
 	own                 []answer
-	touched             [4][24][]int // the keys of a partition that a transaction touches
+	touched             [4][24][]int    // the keys of a partition that a transaction touches
+	conflicts           [4][24][24]bool // of two transactions in a partition, the earlier one first
 	admitted, read, did [4][24]bool
+	sent, has           [4][4][24]bool // by the partition that did it, and the other one
+	mail                [4][4][]int    // from one to another
 }
 
 // answer is what came of a transaction in the log's own answer: its result, and what it left in the keys that it wrote.
@@ -43,6 +43,9 @@ func newModel(c api.Config, log []api.Txn, start []api.Pair) *model {
 	for partition := range m.partitions() {
 		for txn, t := range log {
 			m.touched[partition][txn] = m.touch(partition, t)
+			for earlier := range txn {
+				m.conflicts[partition][earlier][txn] = m.conflict(partition, earlier, txn)
+			}
 		}
 	}
 	return m
@@ -137,6 +140,17 @@ func (m *model) takesPart(partition, txn int) bool {
 	return len(m.touched[partition][txn]) > 0
 }
 
+// parts is the partitions in which a transaction takes part.
+func (m *model) parts(txn int) []int {
+	var list []int
+	for partition := range m.partitions() {
+		if m.takesPart(partition, txn) {
+			list = append(list, partition)
+		}
+	}
+	return list
+}
+
 func (m *model) open(partition, txn int) bool {
 	return m.admitted[partition][txn] && !m.did[partition][txn]
 }
@@ -151,25 +165,34 @@ func (m *model) opened(partition int) int {
 	return n
 }
 
+func (m *model) conflict(partition, one, two int) bool {
+	return slices.ContainsFunc(m.touched[partition][one], func(key int) bool {
+		written := slices.Contains(m.log[one].Writes, key) || slices.Contains(m.log[two].Writes, key)
+		return written && slices.Contains(m.touched[partition][two], key)
+	})
+}
+
 func (m *model) granted(partition, txn int) bool {
 	for earlier := range txn {
-		if !m.open(partition, earlier) {
-			continue
-		}
-		for _, key := range m.touched[partition][earlier] {
-			both := slices.Contains(m.touched[partition][txn], key)
-			if both && (slices.Contains(m.log[earlier].Writes, key) || slices.Contains(m.log[txn].Writes, key)) {
-				return false
-			}
+		if m.open(partition, earlier) && m.conflicts[partition][earlier][txn] {
+			return false
 		}
 	}
 	return true
 }
 
-// ready: as long as nothing is sent, only what takes part here alone.
+func (m *model) readable(partition, txn int) bool {
+	return m.open(partition, txn) && !m.read[partition][txn] && m.granted(partition, txn)
+}
+
+func (m *model) sendable(partition, other, txn int) bool {
+	return m.read[partition][txn] && !m.did[partition][txn] && m.takesPart(other, txn) && !m.sent[partition][other][txn]
+}
+
 func (m *model) ready(partition, txn int) bool {
 	for other := range m.partitions() {
-		if other != partition && m.takesPart(other, txn) {
+		both := m.sent[partition][other][txn] && m.has[partition][other][txn]
+		if other != partition && m.takesPart(other, txn) && !both {
 			return false
 		}
 	}
@@ -186,28 +209,47 @@ func (m *model) next(partition int) int {
 	return len(m.log)
 }
 
-func (m *model) pick(partition, kind int) bool {
-	done := 0
+// pick does what a pick says of two partitions that there are, or of one and any other.
+func (m *model) pick(partition, kind, other int) bool {
+	switch kind {
+	case api.Admit:
+		may := func(txn int) bool { return txn == m.next(partition) && m.opened(partition) < m.config.Window }
+		return m.first(1, may, func(txn int) { m.admitted[partition][txn] = true })
+	case api.Read:
+		may := func(txn int) bool { return m.readable(partition, txn) }
+		return m.first(1, may, func(txn int) { m.read[partition][txn] = true })
+	case api.Send:
+		may := func(txn int) bool {
+			return m.sendable(partition, other, txn) && len(m.mail[partition][other]) < m.config.Credits
+		}
+		return m.first(1, may, func(txn int) {
+			m.sent[partition][other][txn] = true
+			m.mail[partition][other] = append(m.mail[partition][other], txn)
+		})
+	case api.Take:
+		if len(m.mail[other][partition]) == 0 {
+			return false
+		}
+		m.has[partition][other][m.mail[other][partition][0]] = true
+		m.mail[other][partition] = m.mail[other][partition][1:]
+		return true
+	}
+	may := func(txn int) bool { return m.ready(partition, txn) }
+	return m.first(m.config.Workers, may, func(txn int) { m.did[partition][txn] = true })
+}
+
+// first does something with the first ones of the log that may be, at most so many.
+func (m *model) first(most int, may func(int) bool, do func(int)) bool {
+	var list []int
 	for txn := range m.log {
-		switch kind {
-		case api.Admit:
-			if done == 0 && txn == m.next(partition) && m.opened(partition) < m.config.Window {
-				m.admitted[partition][txn] = true
-				done++
-			}
-		case api.Read:
-			if done == 0 && m.open(partition, txn) && !m.read[partition][txn] && m.granted(partition, txn) {
-				m.read[partition][txn] = true
-				done++
-			}
-		case api.Work:
-			if done < m.config.Workers && m.ready(partition, txn) {
-				m.did[partition][txn] = true
-				done++
-			}
+		if may(txn) && len(list) < most {
+			list = append(list, txn)
 		}
 	}
-	return done > 0
+	for _, txn := range list {
+		do(txn)
+	}
+	return len(list) > 0
 }
 
 func (m *model) look(partition int) api.Look {
@@ -266,157 +308,25 @@ func (m *model) wantAll(t *testing.T, e *orderly.Engine, what string) {
 		if got.Open > m.config.Window {
 			t.Fatalf("P9: %s: Open %d, above the Window", what, got.Open)
 		}
-	}
-}
-
-// chance makes logs whose transactions often conflict.
-type chance struct{ *rand.Rand }
-
-func (c chance) keys() []int {
-	list := make([]int, c.IntN(4))
-	for i := range list {
-		list[i] = []int{0, 1, 24, 25, 49, 50, 98, 99}[c.IntN(8)]
-	}
-	return list
-}
-
-func (c chance) number() int {
-	return []int{0, 1, -1, 7, 1000, math.MaxInt, math.MinInt}[c.IntN(7)]
-}
-
-func (c chance) txn() api.Txn {
-	t := api.Txn{Reads: c.keys(), Writes: c.keys()}
-	for range c.IntN(3) {
-		lo := c.IntN(100)
-		t.Ranges = append(t.Ranges, api.Range{Lo: lo, Hi: min(99, lo+c.IntN(30))})
-	}
-	length := c.IntN(17)
-	for len(t.Code) < length {
-		t.Code = append(t.Code, c.ins(t, len(t.Code), length))
-	}
-	return t
-}
-
-// ins tries until it finds an instruction that may stand there.
-func (c chance) ins(t api.Txn, at, length int) api.Ins {
-	gettable := slices.Concat(t.Reads, t.Writes)
-	for {
-		i := api.Ins{Kind: 1 + c.IntN(10), A: c.IntN(4), B: c.IntN(4), C: c.IntN(4)}
-		switch i.Kind {
-		case api.Const:
-			i.B = c.number()
-		case api.Get:
-			if len(gettable) == 0 {
-				continue
-			}
-			i.B = gettable[c.IntN(len(gettable))]
-		case api.Put, api.Delete:
-			if len(t.Writes) == 0 {
-				continue
-			}
-			i.A = t.Writes[c.IntN(len(t.Writes))]
-		case api.Sum, api.Count:
-			if len(t.Ranges) == 0 {
-				continue
-			}
-			i.B = c.IntN(len(t.Ranges))
-		case api.Jump:
-			i.C = at + 1 + c.IntN(length-at)
-		case api.Abort:
-			if c.IntN(6) > 0 {
-				continue
-			}
-		}
-		return i
-	}
-}
-
-func (c chance) log() []api.Txn {
-	list := make([]api.Txn, c.IntN(25))
-	for i := range list {
-		list[i] = c.txn()
-	}
-	return list
-}
-
-func (c chance) start() []api.Pair {
-	var list []api.Pair
-	for key := range 100 {
-		if len(list) < 40 && c.IntN(3) == 0 {
-			list = append(list, api.Pair{Key: key, Value: c.number()})
+		for to := range m.partitions() {
+			m.wantMail(t, e, what, p, to)
 		}
 	}
-	return list
 }
 
-func (c chance) config(bounds []int) api.Config {
-	return api.Config{Bounds: bounds, Window: 1 + c.IntN(8), Credits: 1 + c.IntN(8), Workers: 1 + c.IntN(4)}
-}
-
-// walk picks by chance until nothing is left to be picked of Admit, Read and Work, and holds all against the model behind each pick.
-func walk(t *testing.T, seed uint64, bounds []int) *model {
-	c := chance{rand.New(rand.NewPCG(seed, 2))}
-	config, log, start := c.config(bounds), c.log(), c.start()
-	e, m := wantEngine(t, config, log, start...), newModel(config, log, start)
-	for idle := 0; idle < 100; idle++ {
-		p, kind := c.IntN(m.partitions()), []int{api.Admit, api.Read, api.Work}[c.IntN(3)]
-		what := fmt.Sprintf("seed %d, bounds %v, Pick(%d, %d)", seed, bounds, p, kind)
-		got, want := e.Pick(p, kind, c.IntN(4)), m.pick(p, kind)
-		if got != want {
-			t.Fatalf("P4: %s is %v", what, got)
+func (m *model) wantMail(t *testing.T, e *orderly.Engine, what string, from, to int) {
+	t.Helper()
+	got, f := e.Mail(from, to)
+	if from == to {
+		if got != 0 || f != api.ErrPartition {
+			t.Fatalf("P5: %s: Mail(%d, %d) = %d, %d", what, from, to, got, f)
 		}
-		if got {
-			idle = 0
-		}
-		m.wantAll(t, e, what)
+		return
 	}
-	return m
-}
-
-// P7 as well: a walk of one partition ends when nothing can be picked, and then all are done.
-func TestP6WalksOfOnePartition(t *testing.T) {
-	aborted, shown := 0, 0
-	for seed := range uint64(60) {
-		m := walk(t, seed, nil)
-		for txn := range m.log {
-			if !m.did[0][txn] {
-				t.Fatalf("P7: seed %d: %d is not done, and nothing can be picked", seed, txn)
-			}
-			if m.own[txn].result.Aborted {
-				aborted++
-			} else if m.own[txn].result.Registers != [4]int{} {
-				shown++
-			}
-		}
+	if want := len(m.mail[from][to]); got != want || f != api.OK {
+		t.Fatalf("P5: %s: Mail(%d, %d) = %d, %d, not %d", what, from, to, got, f, want)
 	}
-	if aborted < 50 || shown < 50 {
-		t.Errorf("the walks show too little: %d aborted, %d with registers", aborted, shown)
-	}
-}
-
-// Transactions that take part elsewhere are let in and read, but not worked out, as long as nothing is sent.
-func TestP4WalksOfSeveralPartitions(t *testing.T) {
-	for seed := range uint64(40) {
-		walk(t, seed, []int{50})
-		walk(t, seed, []int{1, 25, 99})
-	}
-}
-
-// P8 of one partition: nothing is sent, and the rounds suffice whatever their order.
-func TestP8RoundsOfOnePartition(t *testing.T) {
-	for seed := range uint64(60) {
-		c := chance{rand.New(rand.NewPCG(seed, 3))}
-		config, log := c.config(nil), c.log()
-		e := wantEngine(t, config, log)
-		for range len(log) * (config.Credits + 6) {
-			for _, kind := range c.Perm(7) {
-				e.Pick(0, kind, 0)
-			}
-		}
-		for txn := range log {
-			if r, f := e.Result(txn); !r.Done || f != api.OK {
-				t.Fatalf("P8: seed %d: Result(%d) = %+v, %d", seed, txn, r, f)
-			}
-		}
+	if got > m.config.Credits {
+		t.Fatalf("P9: %s: Mail(%d, %d) = %d, above the Credits", what, from, to, got)
 	}
 }

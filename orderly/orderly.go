@@ -40,6 +40,10 @@ func (e *Engine) Pick(partition, kind, other int) bool {
 		return p.admit()
 	case api.Read:
 		return p.read()
+	case api.Send:
+		return e.hasTwo(partition, other) && p.send(&e.partitions[other])
+	case api.Take:
+		return e.hasTwo(partition, other) && p.take(other)
 	case api.Work:
 		return p.work(e.results)
 	}
@@ -77,9 +81,8 @@ func (e *Engine) Look(partition int) (api.Look, api.Errno) {
 
 // Mail tells how many are under way (P5).
 func (e *Engine) Mail(from, to int) (int, api.Errno) {
-	if !e.hasPartition(from) || !e.hasPartition(to) || from == to {
+	if !e.hasTwo(from, to) {
 		return 0, api.ErrPartition
 	}
-	// As long as nothing can be sent, none is under way.
-	return 0, api.OK
+	return e.partitions[to].underWay(from), api.OK
 }

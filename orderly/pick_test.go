@@ -287,26 +287,6 @@ func TestP4TouchesNothing(t *testing.T) {
 	wantResult(t, e, 2, api.Result{Done: true, Aborted: true})
 }
 
-func TestP4Example2(t *testing.T) {
-	e := wantEngine(t, plain(), example(), api.Pair{Key: 10, Value: 5}, api.Pair{Key: 60, Value: 7})
-	wantPicks(t, e, true, [3]int{1, api.Admit}, [3]int{1, api.Admit})
-	wantLook(t, e, 1, 2, 2, 1, 1)
-	wantPicks(t, e, true, [3]int{1, api.Read})
-	wantPicks(t, e, false, [3]int{1, api.Read}, [3]int{1, api.Work})
-	wantLook(t, e, 1, 2, 2, 0, 1)
-	wantLook(t, e, 0, 0, 0, 0, 0)
-	wantDone(t, e, 2)
-}
-
-// The example's second transaction has no part elsewhere.
-func TestP4Example4(t *testing.T) {
-	e := wantEngine(t, plain(), example()[1:], api.Pair{Key: 10, Value: 5}, api.Pair{Key: 60, Value: 12})
-	wantPicks(t, e, true, [3]int{1, api.Admit}, [3]int{1, api.Read}, [3]int{1, api.Work})
-	wantResult(t, e, 0, done(12))
-	wantTable(t, e, 1, api.Pair{Key: 60, Value: 12})
-	wantNothingToPick(t, e)
-}
-
 func wantNothingToPick(t *testing.T, e *orderly.Engine) {
 	t.Helper()
 	want := seen(e)
